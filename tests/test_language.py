@@ -101,6 +101,8 @@ class LanguageTest(unittest.TestCase):
             bound = [node.name for node in nodes_of(tree, (ast.FunctionDef, ast.ClassDef))]
             bound += [node.arg for node in nodes_of(tree, ast.arg)]
             bound += [node.id for node in nodes_of(tree, ast.Name) if isinstance(node.ctx, ast.Store)]
+            drawn = [name.name for node in nodes_of(tree, ast.ImportFrom) for name in node.names]
+            self.assertEqual(sorted(set(bound) & set(drawn)), [])
             for name in bound:
                 self.assertFalse(name.startswith("_"), name)
                 self.assertFalse(hasattr(builtins, name), name)
